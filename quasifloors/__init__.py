@@ -1,0 +1,1 @@
+"""quasifloors: floors that never repeat, told exactly."""

@@ -8,6 +8,9 @@ the common divisors are then looked for only once, at the end.
 from math import gcd, isqrt
 
 ZERO = (0, 0, 1)
+STRETCH_UNITS = {2: (3, 2, 1), 3: (2, 1, 1), 5: (1, 1, 1)}
+# By these the area of a window is to be divided, for how many places are to an area of 1.
+DENSITIES = {2: 8, 3: 12, 5: 5}
 
 
 def pair_times(kind, one, other):
@@ -51,9 +54,13 @@ def over_root(kind, pair):
 
 def pair_sign(kind, pair):
     """Return -1, 0 or 1, without a root: the squares tell which part is greater, and so has the sign."""
-    a, b, _ = over_root(kind, pair)
-    if a == 0 and b == 0:
-        return 0
+    a, b = pair
+    if kind == 5:
+        a = a + a + b
+    if a >= 0 and b >= 0:
+        return 1 if a > 0 or b > 0 else 0
+    if a <= 0 and b <= 0:
+        return -1
     greater = a if a * a > kind * b * b else b
     return 1 if greater > 0 else -1
 
@@ -74,10 +81,30 @@ def quotient(kind, top, bottom):
     return reduced(a, b, pair_norm(kind, bottom))
 
 
+def multiplied(kind, p, q):
+    a, b = pair_times(kind, p[:2], q[:2])
+    return reduced(a, b, p[2] * q[2])
+
+
+def divided(kind, p, q):
+    """Return p divided by q, which is not 0."""
+    return quotient(kind, (p[0] * q[2], p[1] * q[2]), (q[0] * p[2], q[1] * p[2]))
+
+
+def negative(p):
+    return -p[0], -p[1], p[2]
+
+
 def total(p, q):
     a, b, n = p
     c, d, m = q
     return reduced(a * m + c * n, b * m + d * n, n * m)
+
+
+def difference(p, q):
+    a, b, n = p
+    c, d, m = q
+    return reduced(a * m - c * n, b * m - d * n, n * m)
 
 
 def difference_pair(p, q):
@@ -101,3 +128,8 @@ def floored(kind, p):
         # The root of what is no square lies above its floor, so minus the root below minus it.
         root = -root - 1
     return (c + root) // (n * m)
+
+
+def ceiled(kind, p):
+    """Return the least integer that is at least p, which need not be in its form."""
+    return -floored(kind, negative(p))

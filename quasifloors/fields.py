@@ -2,10 +2,10 @@
 
 from quasifloors.checks import check_integer, check_kind, check_number, is_in_form
 from quasifloors.errors import DividedByZero, InvalidNumber
-from quasifloors.exact import floored, order_of, pair_mate, pair_norm, pair_sign, pair_times, quotient, reduced, total
+from quasifloors.exact import STRETCH_UNITS, difference, divided, floored, multiplied, order_of, pair_mate, pair_norm
+from quasifloors.exact import pair_sign, reduced, total
 
 UNITS = {2: (1, 1, 1), 3: (2, 1, 1), 5: (0, 1, 1)}
-STRETCH_UNITS = {2: (3, 2, 1), 3: (2, 1, 1), 5: (1, 1, 1)}
 
 
 def is_number(told):
@@ -31,7 +31,7 @@ def plus(p, q):
 def minus(p, q):
     check_number(p)
     check_number(q)
-    return total(p, (-q[0], -q[1], q[2]))
+    return difference(p, q)
 
 
 def scaled(p, k):
@@ -45,8 +45,7 @@ def times(kind, p, q):
     check_kind(kind)
     check_number(p)
     check_number(q)
-    a, b = pair_times(kind, p[:2], q[:2])
-    return reduced(a, b, p[2] * q[2])
+    return multiplied(kind, p, q)
 
 
 def by(kind, p, q):
@@ -56,9 +55,7 @@ def by(kind, p, q):
     check_number(q)
     if q[0] == 0 and q[1] == 0:
         raise DividedByZero(p)
-    top = (p[0] * q[2], p[1] * q[2])
-    bottom = (q[0] * p[2], q[1] * p[2])
-    return quotient(kind, top, bottom)
+    return divided(kind, p, q)
 
 
 def mate(kind, p):

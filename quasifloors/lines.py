@@ -7,7 +7,7 @@ points and the point on two lines are worked out by the same steps, and
 without a division.
 """
 
-from math import gcd
+from math import gcd, lcm
 
 from quasifloors.exact import pair_minus, pair_plus, pair_sign, pair_times, quotient
 
@@ -18,6 +18,18 @@ def lifted(point):
     shared = gcd(n, m)
     across, up = m // shared, n // shared
     return (a * across, b * across), (c * up, d * up), (n * across, 0)
+
+
+def lifted_alike(points):
+    """Return the triples of some points, all with the same third pair, (n, 0)."""
+    scale = 1
+    for x, y in points:
+        scale = lcm(scale, x[2], y[2])
+    triples = []
+    for (a, b, n), (c, d, m) in points:
+        across, up = scale // n, scale // m
+        triples.append(((a * across, b * across), (c * up, d * up), (scale, 0)))
+    return triples
 
 
 def settled(kind, triple):
@@ -33,6 +45,16 @@ def cleared(triple):
     if shared == 1:
         return triple
     return (a // shared, b // shared), (c // shared, d // shared), (e // shared, f // shared)
+
+
+def moved_back(kind, triple, x, y):
+    """Return the line got by moving a line by minus a point of two pairs.
+
+    Its height at a point is that of the line at the point and this one, added.
+    """
+    across, up, off = triple
+    off = pair_plus(off, pair_plus(pair_times(kind, across, x), pair_times(kind, up, y)))
+    return across, up, off
 
 
 def minor(kind, a, b, c, d):
@@ -56,8 +78,15 @@ def crossing(kind, one, other):
 
 def height(kind, line, point):
     """Return a pair: above 0 for a point to the left of a line, below 0 to the right."""
-    x, y, z = [pair_times(kind, one, other) for one, other in zip(line, point)]
-    return pair_plus(pair_plus(x, y), z)
+    # Written out, since nothing else is asked for so often: the sum of the three pairs' products.
+    (a, b), (c, d), (e, f) = line
+    (p, q), (r, s), (t, u) = point
+    whole = a * p + c * r + e * t
+    once = a * q + b * p + c * s + d * r + e * u + f * t
+    twice = b * q + d * s + f * u
+    if kind == 5:
+        return whole + twice, once + twice
+    return whole + kind * twice, once
 
 
 def side_of(kind, line, point):

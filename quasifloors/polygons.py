@@ -3,7 +3,7 @@
 from quasifloors.checks import check_kind, check_point, check_polygon, is_shape
 from quasifloors.errors import InvalidPair
 from quasifloors.exact import ZERO, total
-from quasifloors.shapes import area_of, common, halves, holds, outermost, remaining
+from quasifloors.shapes import area_of, common, halves, holds, moved_by, outermost, remaining
 
 
 def is_polygon(kind, told):
@@ -42,7 +42,7 @@ def moved(kind, polygon, point):
     check_kind(kind)
     check_polygon(kind, polygon)
     check_point(point)
-    return tuple([(total(x, point[0]), total(y, point[1])) for x, y in polygon])
+    return moved_by(polygon, point)
 
 
 def cut(kind, polygon, one, other):

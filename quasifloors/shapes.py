@@ -6,8 +6,8 @@ either direction). A point at which an edge is cut is so got from two lines
 that were handed in, however often the polygon was cut before.
 """
 
-from quasifloors.exact import ZERO, order_of, reduced, total
-from quasifloors.lines import crossing, joined, lifted, minor, settled, side_beyond, side_of
+from quasifloors.exact import ZERO, order_of, pair_plus, pair_times, quotient, reduced, total
+from quasifloors.lines import crossing, joined, lifted, lifted_alike, minor, settled, side_beyond, side_of
 
 
 def point_order(kind, one, other):
@@ -85,27 +85,43 @@ def outermost(kind, points):
     return tuple(corners)
 
 
+def moved_by(corners, point):
+    """Return a polygon with a point added to each of its points."""
+    return tuple([(total(x, point[0]), total(y, point[1])) for x, y in corners])
+
+
 def area_of(kind, corners):
     """Return the area of a polygon: half of the sum of its edges' minors."""
-    twice = ZERO
-    for one, other in around([lifted(corner) for corner in corners]):
-        a, b = minor(kind, one[0], one[1], other[0], other[1])
-        twice = total(twice, reduced(a, b, one[2][0] * other[2][0]))
-    return reduced(twice[0], twice[1], 2 * twice[2])
+    triples = lifted_alike(corners)
+    scale = triples[0][2][0]
+    twice = (0, 0)
+    for one, other in around(triples):
+        twice = pair_plus(twice, minor(kind, one[0], one[1], other[0], other[1]))
+    return reduced(twice[0], twice[1], 2 * scale * scale)
 
 
-def holds(kind, corners, point):
-    """Tell whether a point is in a polygon, one that is on its rim as the document has it."""
-    triple = lifted(point)
-    for one, other in around([lifted(corner) for corner in corners]):
-        if side_beyond(kind, joined(kind, one, other), triple) < 0:
+def sides_of(kind, corners):
+    """Return the lines of the edges of a polygon, which is to the left of them."""
+    triples = [lifted(corner) for corner in corners]
+    return [joined(kind, one, other) for one, other in around(triples)]
+
+
+def hold(kind, sides, triple):
+    """Tell whether a point is in the polygon to the left of some lines, as the document has it."""
+    for side in sides:
+        if side_beyond(kind, side, triple) < 0:
             return False
     return True
 
 
+def holds(kind, corners, point):
+    """Tell whether a point is in a polygon, one that is on its rim as the document has it."""
+    return hold(kind, sides_of(kind, corners), lifted(point))
+
+
 def shape_of(kind, corners):
     triples = [lifted(corner) for corner in corners]
-    return [(one, joined(kind, one, other)) for one, other in around(triples)]
+    return list(zip(triples, sides_of(kind, corners)))
 
 
 def polygon_of(kind, shape):
@@ -120,9 +136,23 @@ def polygon_of(kind, shape):
     return tuple(corners[least:] + corners[:least])
 
 
+def extent_of(kind, shape):
+    """Return the area of a shape."""
+    twice = ZERO
+    for (one, _), (other, _) in around(shape):
+        edge = minor(kind, one[0], one[1], other[0], other[1])
+        twice = total(twice, quotient(kind, edge, pair_times(kind, one[2], other[2])))
+    return reduced(twice[0], twice[1], 2 * twice[2])
+
+
 def parted(kind, shape, line):
     """Return what of a shape lies to the left and to the right of a line, each None without an area."""
-    marked = [(corner, side, side_of(kind, line, corner)) for corner, side in shape]
+    hands = [side_of(kind, line, corner) for corner, _ in shape]
+    if min(hands) >= 0:
+        return shape, None
+    if max(hands) <= 0:
+        return None, shape
+    marked = [(corner, side, hand) for (corner, side), hand in zip(shape, hands)]
     rim = []
     for spot, following in around(marked):
         rim.append(spot)
@@ -134,39 +164,52 @@ def parted(kind, shape, line):
 def part_beside(rim, line, hand):
     """Return the part on one hand of a line of a shape that has a corner wherever it is cut."""
     part = []
-    has_area = False
     for (corner, side, here), following in around(rim):
         if hand in (here, following[2]):
             part.append((corner, side))
-            has_area = True
         elif here == 0:
             # The edge behind this corner is cut off: the part goes on along the line.
             part.append((corner, line))
-    return part if has_area else None
+    return part
+
+
+def left_of_all(kind, shape, sides):
+    """Return what of a shape lies to the left of all of some lines, None if it has no area."""
+    for side in sides:
+        shape = parted(kind, shape, side)[0]
+        if shape is None:
+            return None
+    return shape
+
+
+def carved(kind, shape, sides):
+    """Return what of a shape lies to the left of all of some lines, or None, and a list of shapes of the rest."""
+    inside = shape
+    outsides = []
+    for side in sides:
+        inside, outside = parted(kind, inside, side)
+        if inside is None:
+            # Nothing lies there, so the shape stays as it is, however it was cut so far.
+            return None, [shape]
+        if outside is not None:
+            outsides.append(outside)
+    return inside, outsides
+
+
+def ascending(kind, shapes):
+    """Return the ascending tuple of the polygons that some shapes are."""
+    return tuple(sorted([polygon_of(kind, shape) for shape in shapes]))
 
 
 def common(kind, one, other):
     """Return the polygon of what two have in common, None if it has no area."""
-    shape = shape_of(kind, one)
-    for _, side in shape_of(kind, other):
-        shape = parted(kind, shape, side)[0]
-        if shape is None:
-            return None
-    return polygon_of(kind, shape)
+    return polygon_of(kind, left_of_all(kind, shape_of(kind, one), sides_of(kind, other)))
 
 
 def remaining(kind, one, other):
     """Return the ascending tuple of polygons that make up what of the one the other one has not."""
-    shape = shape_of(kind, one)
-    parts = []
-    for _, side in shape_of(kind, other):
-        shape, outside = parted(kind, shape, side)
-        if shape is None:
-            # Nothing is common to both, so the one stays as it is, however it was cut so far.
-            return (one,)
-        if outside is not None:
-            parts.append(polygon_of(kind, outside))
-    return tuple(sorted(parts))
+    rest = carved(kind, shape_of(kind, one), sides_of(kind, other))[1]
+    return ascending(kind, rest)
 
 
 def halves(kind, corners, one, other):

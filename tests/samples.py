@@ -35,3 +35,22 @@ def grid():
     numbers = [(-3, 0, 1), (-1, 0, 1), (-1, 0, 2), (0, 0, 1), (1, 0, 2), (1, 0, 1), (2, 0, 1), (1, -1, 1),
                (0, 1, 2), (0, 1, 1), (2, -1, 1)]
     return list(product(numbers, numbers))
+
+
+def part_by(x, y, n):
+    """A point of two integers by a third one."""
+    return tuple([(a // n, 0, 1) if a % n == 0 else (a, 0, n) for a in (x, y)])
+
+
+TWO = (at(0, 0), at(2, 0), at(2, 2), at(0, 2))
+HALVES = tuple([part_by(x, y, 2) for x, y in ((-2, 0), (-1, -2), (1, -2), (2, 0), (1, 2), (-1, 2))])
+FIVE = (((-1, 0, 1), (-1, 0, 3)), ((1, 0, 7), (-1, 0, 1)), ((5, 0, 4), (-1, 0, 2)), ((0, 1, 2), (2, 0, 3)),
+        ((-1, 0, 2), (1, 0, 1)))
+SLIM = (at(-2, 0), at(2, 0), ((2, 0, 1), (1, 0, 3)), ((-2, 0, 1), (1, 0, 6)))
+AWAY = shifted(FIVE, -300, 999)
+# Of three to six corners, with whole and broken numbers, with and without w; of areas from 1 by 4 to 6.
+WINDOWS = [SQUARE, TWO, THREE, DOWN, INNER, HALVES, FIVE, SLIM, ODD, FLAT, SHARP, AWAY]
+
+
+def floors(kind):
+    return [(kind, window) for window in WINDOWS]

@@ -5,7 +5,7 @@ import inspect
 import unittest
 from pathlib import Path
 
-from quasifloors import errors, fields, polygons
+from quasifloors import alikes, errors, fields, floors, patches, polygons, returns
 
 TOP = Path(__file__).resolve().parent.parent
 
@@ -15,6 +15,16 @@ FIELDS = {"is_number": "told", "number": "a b n", "plus": "p q", "minus": "p q",
 POLYGONS = {"is_polygon": "kind told", "polygon": "kind points", "area": "kind polygon",
             "is_in": "kind polygon point", "moved": "kind polygon point", "cut": "kind polygon one other",
             "met": "kind one other", "less": "kind one other", "sum_of": "kind polygons"}
+FLOORS = {"is_place": "told", "is_floor": "told", "mate_of": "kind place", "point_of": "place", "added": "one other",
+          "turned_about": "place", "has": "floor place", "density": "floor", "places": "floor box",
+          "moved_floor": "floor place", "nearest": "floor place"}
+PATCHES = {"near": "floor r", "patch_of": "floor place r", "part": "floor r patch", "share": "floor r patch",
+           "comes": "floor r patch", "patches": "floor r", "found": "floor r patch", "how_often": "floor r step"}
+RETURNS = {"again": "floor r patch", "is_again": "floor r patch far", "lonely": "floor r patch far",
+           "all_again": "floor r"}
+ALIKES = {"is_one": "one other", "alike": "one other", "first_unlike": "one other most", "apart": "one other r"}
+INTERFACE = [(fields, FIELDS), (polygons, POLYGONS), (floors, FLOORS), (patches, PATCHES), (returns, RETURNS),
+             (alikes, ALIKES)]
 
 EXAMPLES = """
 >>> from quasifloors.fields import about, by, compared, floor_of, mate, norm, number, sign, stretch_unit, times, unit
@@ -30,6 +40,27 @@ EXAMPLES = """
 >>> half = ((0, 1, 2), (0, 0, 1))
 >>> [area(2, part) for part in cut(2, square, half, ((0, 1, 2), (1, 0, 1)))]
 [(0, 1, 2), (2, -1, 2)]
+>>> from quasifloors.floors import density, has, mate_of, places
+>>> floor = (2, square)
+>>> here = ((0, 0), (0, 0))
+>>> [has(floor, here), has(floor, ((1, 0), (0, 0))), mate_of(2, ((1, 1), (0, 2))), density(floor)]
+[True, False, ((1, -1, 1), (0, -2, 1)), (1, 0, 8)]
+>>> places(floor, ((0, 0, 1), (0, 0, 1), (0, 0, 1), (4, 0, 1)))
+[((0, 0), (0, 0)), ((0, 0), (2, 1))]
+>>> from quasifloors.patches import comes, how_often, near, patch_of, patches
+>>> big = (2, polygon(2, [at(0, 0), at(2, 0), at(2, 2), at(0, 2)]))
+>>> [len(near(big, 1)), len(patches(big, 1)), near(floor, 2), how_often(big, 1, ((1, 0), (0, 0)))]
+[8, 4, [], (1, 0, 2)]
+>>> patch = (((0, 0), (1, 0)), ((1, 0), (0, 0)), ((1, 0), (1, 0)))
+>>> [patch_of(big, here, 1) == patch, patches(big, 1)[-1] == (patch, (1, 0, 4)), comes(big, 1, ())]
+[True, True, False]
+>>> from quasifloors.returns import again, is_again
+>>> [again(big, 1, patch), is_again(big, 1, patch, 0)]
+[1, False]
+>>> from quasifloors.alikes import alike, apart, first_unlike, is_one
+>>> from quasifloors.floors import moved_floor
+>>> [is_one(floor, floor), alike(floor, moved_floor(floor, ((1, 1), (0, 0)))), first_unlike(floor, big, 1), apart(floor, big, 1)]
+[True, ((1, -1, 1), (0, 0, 1)), (1, ()), (1, 0, 1)]
 """
 
 
@@ -47,7 +78,7 @@ class Document(unittest.TestCase):
         self.run_examples((TOP / "README.md").read_text(encoding="utf-8"), "README.md")
 
     def test_interface(self):
-        for module, listed in ((fields, FIELDS), (polygons, POLYGONS)):
+        for module, listed in INTERFACE:
             for name, names in listed.items():
                 function = getattr(module, name)
                 self.assertTrue(inspect.isfunction(function))

@@ -15,7 +15,7 @@ METHODS = """append clear copy count endswith extend find get index insert isaln
 isupper items join keys ljust lower lstrip partition pop remove replace reverse rfind rjust rpartition rsplit rstrip
 setdefault split splitlines startswith strip update upper values zfill bit_length""".split()
 BANNED = (ast.Div, ast.Global, ast.AsyncFunctionDef, ast.Await, ast.Import, ast.JoinedStr, ast.Set, ast.SetComp,
-          ast.GeneratorExp, ast.Lambda, ast.Yield, ast.YieldFrom, ast.Try, ast.With, ast.Starred, ast.Pow,
+          ast.GeneratorExp, ast.Yield, ast.YieldFrom, ast.Try, ast.With, ast.Starred, ast.Pow,
           ast.AnnAssign, ast.NamedExpr)
 
 
@@ -122,6 +122,22 @@ class Language(unittest.TestCase):
                             self.assertIsInstance(other, ast.Constant)
                 if isinstance(node, ast.Call) and isinstance(node.func, ast.Attribute):
                     self.assertIn(node.func.attr, METHODS)
+
+    def test_functions_within_functions(self):
+        # Only sorted has a key, and that is an item of its one parameter.
+        for path in FILES:
+            keys = []
+            for node in ast.walk(tree(path)):
+                if isinstance(node, ast.FunctionDef):
+                    inner = [told for told in ast.walk(node) if isinstance(told, ast.FunctionDef)]
+                    self.assertEqual(inner, [node], path)
+                if isinstance(node, ast.Call):
+                    for keyword in node.keywords:
+                        self.assertEqual((node.func.id, keyword.arg), ("sorted", "key"), path)
+                        self.assertRegex(ast.unparse(keyword.value), r"^lambda (\w+): \1\[\d\]$")
+                        keys.append(keyword.value)
+            lambdas = [node for node in ast.walk(tree(path)) if isinstance(node, ast.Lambda)]
+            self.assertEqual(len(lambdas), len(keys), path)
 
     def test_names(self):
         known = set(dir(builtins)) - {"_"}

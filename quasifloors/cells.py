@@ -55,17 +55,14 @@ def shares_of(kind, window, r):
 
 def part_of(kind, window, r, patch):
     """Return a list of shapes that make up the part of a patch, none if it does not come."""
-    steps = near_places(kind, window, r)
     sides = sides_of(kind, window)
     shape = shape_of(kind, window)
     for step in patch:
-        if step not in steps:
-            return []
         shape = left_of_all(kind, shape, sides_before(kind, sides, step))
         if shape is None:
             return []
     rest = [shape]
-    for step in steps:
+    for step in near_places(kind, window, r):
         if step not in patch:
             rest = outside_of_all(kind, rest, sides_before(kind, sides, step))
     return rest

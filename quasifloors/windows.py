@@ -49,7 +49,8 @@ def box_about(place, r):
 
 def box_of(kind, corners):
     """Return the least box that holds a polygon."""
-    left, low = right, high = corners[0]
+    left, low = corners[0]
+    right, high = corners[0]
     for x, y in corners[1:]:
         if order_of(kind, right, x) < 0:
             right = x

@@ -10,9 +10,9 @@ from tests.samples import floors as samples
 
 
 def great_patches(floor, least):
-    """The patches that come often enough: with shares greater than 1 by some integer."""
-    kind = floor[0]
-    return [patch for patch, share in patches.patches(floor, 1) if plain.real(kind, share) > 1 / least]
+    """The patches that come often enough, the ones that come most often first: with shares greater than 1 by least."""
+    shares = [(plain.real(floor[0], share), patch) for patch, share in patches.patches(floor, 1)]
+    return [patch for share, patch in sorted(shares, reverse=True) if share > 1 / least]
 
 
 class Again(unittest.TestCase):
@@ -92,17 +92,18 @@ class Again(unittest.TestCase):
                     self.assertEqual(returns.again(there, 1, patch), returns.again(floor, 1, patch))
 
     def test_far_ones(self):
-        for kind, window in ((2, THREE), (3, INNER), (5, FIVE)):
+        # The least of the shares that are still greater than 1 by so much.
+        for kind, window, least in ((2, THREE, 5), (2, FIVE, 300), (3, HALVES, 30), (5, FIVE, 200)):
             floor = (kind, window)
-            told = patches.patches(floor, 1)
-            patch = min(told, key=lambda one: plain.real(kind, one[1]))[0]
+            patch = great_patches(floor, least)[-1]
             far = returns.again(floor, 1, patch)
-            self.assertGreater(far, 3 if kind != 3 else 0)
+            self.assertGreater(far, 3)
             self.assertIsNone(returns.lonely(floor, 1, patch, far))
-            for distance in (far - 1, 0):
+            for distance in (far - 1, far // 2, 0):
                 place = returns.lonely(far=distance, patch=patch, r=1, floor=floor)
                 self.assertTrue(plain.has(floor, place))
-                self.assertFalse(plain.around(floor, place, 1, patch, distance))
+                others = floors.places(floor, plain.box_about(place, distance))
+                self.assertNotIn(patch, [patches.patch_of(floor, other, 1) for other in others])
                 self.assertIs(returns.is_again(far=distance, patch=patch, r=1, floor=floor), False)
 
 

@@ -1,0 +1,86 @@
+"""What is asked some thousand times over is told quickly."""
+
+import unittest
+from time import perf_counter
+
+from quasifloors import alikes, floors, patches, returns
+from tests.plain import HERE, real
+from tests.reference import KINDS
+from tests.samples import at
+from tests.samples import floors as samples
+
+# With six corners, and a great area.
+GREAT = (at(-2, 0), ((-1, 0, 1), (-3, 0, 2)), ((1, 0, 1), (-3, 0, 2)), ((3, 0, 2), (0, 0, 1)), ((1, 0, 1), (1, 0, 2)),
+         ((-1, 0, 1), (3, 0, 4)))
+SLIM = (at(-4, 0), at(4, 0), ((4, 0, 1), (1, 0, 16)))
+FAR = ((999, -999), (-998, 999))
+
+
+class Speed(unittest.TestCase):
+    # Far more than it takes, so that a slow machine does not matter; far less than a poor way would take.
+    def quick(self, times, seconds, action, *told):
+        start = perf_counter()
+        for _ in range(times):
+            found = action(*told)
+        self.assertLess(perf_counter() - start, seconds, (action.__name__, told))
+        return found
+
+    def floors(self, kind):
+        return samples(kind) + [(kind, GREAT), (kind, SLIM)]
+
+    def test_single_places(self):
+        for kind in KINDS:
+            for floor in self.floors(kind):
+                self.quick(100, 1, floors.has, floor, FAR)
+                self.quick(100, 1, floors.density, floor)
+                self.quick(100, 1, floors.moved_floor, floor, FAR)
+                self.quick(10, 2, floors.nearest, floor, FAR)
+
+    def test_boxes(self):
+        ends = [(3, 1, 2), (-4, 1, 3)]
+        for kind in KINDS:
+            for floor in self.floors(kind):
+                for wide, high in ((10, 10), (100, 1), (1, 100), (1900, 0), (0, 1900)):
+                    (a, b, n), (c, d, m) = ends
+                    box = (ends[0], ends[1], (a + wide * n, b, n), (c + high * m, d, m))
+                    self.quick(4, 1, floors.places, floor, box)
+
+    def test_patches(self):
+        for kind in KINDS:
+            for floor in self.floors(kind):
+                self.quick(10, 1, patches.near, floor, 1)
+                self.quick(10, 1, patches.near, floor, 2)
+                told = self.quick(1, 3, patches.patches, floor, 1)
+                patch = told[len(told) // 2][0]
+                place = self.quick(10, 1, patches.found, floor, 1, patch)
+                self.assertEqual(self.quick(10, 1, patches.patch_of, floor, place, 1), patch)
+                for action in (patches.part, patches.share, patches.comes):
+                    self.quick(10, 1, action, floor, 1, patch)
+                self.quick(10, 1, patches.how_often, floor, 1, ((1, 0), (0, 0)))
+
+    def test_returns(self):
+        for kind in KINDS:
+            for floor in self.floors(kind):
+                told = [patch for patch, share in patches.patches(floor, 1) if real(kind, share) > 1 / 100]
+                for patch in told[:2]:
+                    far = self.quick(1, 5, returns.again, floor, 1, patch)
+                    self.quick(1, 5, returns.is_again, floor, 1, patch, far)
+                    self.quick(1, 5, returns.lonely, floor, 1, patch, max(0, far - 1))
+
+    def test_alikes(self):
+        for kind in KINDS:
+            told = self.floors(kind)
+            for one, other in zip(told, told[1:]):
+                self.quick(10, 1, alikes.alike, one, other)
+                self.quick(1, 4, alikes.first_unlike, one, other, 1)
+                self.quick(1, 4, alikes.apart, one, other, 1)
+
+    def test_a_window_far_away_is_as_quick(self):
+        for kind in KINDS:
+            there = floors.moved_floor((kind, GREAT), FAR)
+            self.quick(1, 3, patches.patches, there, 1)
+            self.quick(10, 2, floors.nearest, there, HERE)
+
+
+if __name__ == "__main__":
+    unittest.main()

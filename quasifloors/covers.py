@@ -81,8 +81,8 @@ def coming_again(kind, window, polygons, far):
                     return needed, place
             # No lesser distance will do for this point. So what is no further need not be looked for again.
             needed = max(needed, found[0][0])
-            at = len(covers)
-            covers = covers + [sides for distance, sides in found if distance <= needed]
+            covers = [sides for distance, sides in found if distance <= needed] + covers
+            at = 0
         rest = covers[:at] + covers[at + 1:]
         left += [(outside, rest) for outside in carved(kind, shape, covers[at])[1]]
     return needed, None

@@ -1,18 +1,9 @@
 """Which floors are one, which are alike, and how far others are apart."""
 
 from quasifloors.cells import parts_of, shares_of
-from quasifloors.checks import check_floor, check_radius
-from quasifloors.errors import InvalidPair
+from quasifloors.checks import check_floors, check_radius
 from quasifloors.exact import ZERO, difference, negative, pair_sign, reduced, total
 from quasifloors.shapes import moved_by
-
-
-def check_floors(one, other):
-    """Refuse what are not two floors of a kind."""
-    check_floor(one)
-    check_floor(other)
-    if one[0] != other[0]:
-        raise InvalidPair((one, other))
 
 
 def move_between(one, other):

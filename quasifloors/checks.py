@@ -2,9 +2,10 @@
 
 from math import gcd
 
-from quasifloors.errors import InvalidBox, InvalidFloor, InvalidKind, InvalidNumber, InvalidPatch, InvalidPlace
-from quasifloors.errors import InvalidPoint, InvalidPolygon, InvalidRadius
-from quasifloors.exact import order_of
+from quasifloors.errors import InvalidBox, InvalidFloor, InvalidKind, InvalidMatrix, InvalidNumber, InvalidPair
+from quasifloors.errors import InvalidPatch, InvalidPlace, InvalidPoint, InvalidPolygon, InvalidRadius, InvalidRow
+from quasifloors.errors import InvalidUnit
+from quasifloors.exact import order_of, pair_mate, pair_norm, pair_sign
 from quasifloors.shapes import goes_round
 from quasifloors.windows import HERE, distance_of
 
@@ -59,6 +60,13 @@ def is_pair_of_wholes(told):
     return is_whole(told[0]) and is_whole(told[1])
 
 
+def is_pair_of_pairs(told):
+    """Tell whether a value of whatever sort has the form of a matrix: two pairs of pairs of integers."""
+    if not isinstance(told, tuple) or len(told) != 2:
+        return False
+    return is_pair_of_wholes(told[0]) and is_pair_of_wholes(told[1])
+
+
 def is_kind_and_window(told):
     """Tell whether a value of whatever sort is a floor."""
     if not isinstance(told, tuple) or len(told) != 2:
@@ -88,6 +96,38 @@ def is_patch(kind, r, told):
         if one >= other:
             return False
     return True
+
+
+def has_good_mate(kind, told):
+    """Tell whether a value of whatever sort is a pair of norm 1 or -1 with a mate above 0."""
+    if not is_whole(told) or pair_norm(kind, told) not in (1, -1):
+        return False
+    return pair_sign(kind, pair_mate(kind, told)) > 0
+
+
+def is_stretch(kind, told):
+    """Tell whether a value of whatever sort is a unit."""
+    return has_good_mate(kind, told) and pair_sign(kind, told) > 0
+
+
+def is_growing_stretch(kind, told):
+    """Tell whether a value of whatever sort is a unit above 1."""
+    return is_stretch(kind, told) and pair_sign(kind, (told[0] - 1, told[1])) > 0
+
+
+def is_triangle(kind, told):
+    """Tell whether a value of whatever sort is a matrix."""
+    if not is_pair_of_pairs(told) or told[1][0] != (0, 0):
+        return False
+    return has_good_mate(kind, told[0][0]) and has_good_mate(kind, told[1][1])
+
+
+def is_kind_and_ends(told):
+    """Tell whether a value of whatever sort is a row."""
+    if not isinstance(told, tuple) or len(told) != 3:
+        return False
+    kind, low, high = told
+    return is_kind(kind) and is_in_form(low) and is_in_form(high) and order_of(kind, low, high) < 0
 
 
 def check_kind(kind):
@@ -123,6 +163,34 @@ def check_place(told):
 def check_floor(told):
     if not is_kind_and_window(told):
         raise InvalidFloor(told)
+
+
+def check_floors(one, other):
+    """Refuse what are not two floors of a kind."""
+    check_floor(one)
+    check_floor(other)
+    if one[0] != other[0]:
+        raise InvalidPair((one, other))
+
+
+def check_matrix(kind, told):
+    if not is_triangle(kind, told):
+        raise InvalidMatrix(told)
+
+
+def check_unit(kind, told):
+    if not is_stretch(kind, told):
+        raise InvalidUnit(told)
+
+
+def check_growing_unit(kind, told):
+    if not is_growing_stretch(kind, told):
+        raise InvalidUnit(told)
+
+
+def check_row(told):
+    if not is_kind_and_ends(told):
+        raise InvalidRow(told)
 
 
 def check_radius(told):

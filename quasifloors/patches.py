@@ -4,7 +4,7 @@ from quasifloors.cells import part_of, share_of, shares_of, sides_before
 from quasifloors.checks import check_floor, check_patch, check_place, check_radius
 from quasifloors.errors import InvalidPair, NoPatch, NotInFloor
 from quasifloors.shapes import ascending, left_of_all, polygon_of, shape_of, sides_of
-from quasifloors.windows import HERE, box_about, distance_of, inner_place, is_of, near_places, places_in, step_from
+from quasifloors.windows import HERE, distance_of, inner_place, is_of, near_places, patch_at
 
 
 def check_patch_of(floor, r, patch):
@@ -29,8 +29,7 @@ def patch_of(floor, place, r):
     kind, window = floor
     if not is_of(kind, sides_of(kind, window), place):
         raise NotInFloor(place)
-    around = places_in(kind, window, box_about(place, r))
-    return tuple([step_from(place, other) for other in around if other != place])
+    return patch_at(kind, window, place, r)
 
 
 def part(floor, r, patch):

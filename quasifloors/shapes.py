@@ -124,16 +124,20 @@ def shape_of(kind, corners):
     return list(zip(triples, sides_of(kind, corners)))
 
 
-def polygon_of(kind, shape):
-    """Return the polygon that a shape is, from its least corner on; None of None."""
-    if shape is None:
-        return None
-    corners = [settled(kind, corner) for corner, side in shape]
+def from_least(kind, corners):
+    """Return the polygon of a list of corners, which begins with the least one."""
     least = 0
     for at, corner in enumerate(corners):
         if point_order(kind, corner, corners[least]) < 0:
             least = at
     return tuple(corners[least:] + corners[:least])
+
+
+def polygon_of(kind, shape):
+    """Return the polygon that a shape is, from its least corner on; None of None."""
+    if shape is None:
+        return None
+    return from_least(kind, [settled(kind, corner) for corner, side in shape])
 
 
 def extent_of(kind, shape):

@@ -113,6 +113,12 @@ def places_in(kind, window, box):
     return sorted([place for place in found if is_of(kind, sides, place)])
 
 
+def patch_at(kind, window, place, r):
+    """Return the patch of a place of a floor."""
+    around = places_in(kind, window, box_about(place, r))
+    return tuple([step_from(place, other) for other in around if other != place])
+
+
 def highest(kind, line, triples):
     """Return the greatest height of some points, whose third pairs are the same, over a line."""
     greatest = height(kind, line, triples[0])

@@ -5,7 +5,7 @@ import inspect
 import unittest
 from pathlib import Path
 
-from quasifloors import alikes, errors, fields, floors, patches, polygons, returns
+from quasifloors import alikes, errors, fields, floors, patches, polygons, returns, rows, rules, stretches
 
 TOP = Path(__file__).resolve().parent.parent
 
@@ -23,8 +23,17 @@ PATCHES = {"near": "floor r", "patch_of": "floor place r", "part": "floor r patc
 RETURNS = {"again": "floor r patch", "is_again": "floor r patch far", "lonely": "floor r patch far",
            "all_again": "floor r"}
 ALIKES = {"is_one": "one other", "alike": "one other", "first_unlike": "one other most", "apart": "one other r"}
+STRETCHES = {"is_matrix": "kind told", "is_unit": "kind told", "taken": "kind matrix place", "undone": "kind matrix",
+             "behind": "kind one other", "taken_floor": "floor matrix", "stretched": "floor unit",
+             "lies_within": "one other", "least_power": "one other most"}
+RULES = {"rule": "floor unit r", "grows": "floor unit r", "ungrown": "floor unit r", "grown": "floor unit r some",
+         "is_rule": "floor unit r told"}
+ROWS = {"is_row": "told", "is_member": "row member", "members": "row left right", "next_member": "row member",
+        "last_member": "row member", "gaps": "row", "word": "row member n", "word_part": "row word", "words": "row n",
+        "found_word": "row word", "stretched_row": "row unit", "fillings": "row unit", "grows_itself": "row unit",
+        "grown_word": "row unit word"}
 INTERFACE = [(fields, FIELDS), (polygons, POLYGONS), (floors, FLOORS), (patches, PATCHES), (returns, RETURNS),
-             (alikes, ALIKES)]
+             (alikes, ALIKES), (stretches, STRETCHES), (rules, RULES), (rows, ROWS)]
 
 EXAMPLES = """
 >>> from quasifloors.fields import about, by, compared, floor_of, mate, norm, number, sign, stretch_unit, times, unit
@@ -61,6 +70,19 @@ EXAMPLES = """
 >>> from quasifloors.floors import moved_floor
 >>> [is_one(floor, floor), alike(floor, moved_floor(floor, ((1, 1), (0, 0)))), first_unlike(floor, big, 1), apart(floor, big, 1)]
 [True, ((1, -1, 1), (0, 0, 1)), (1, ()), (1, 0, 1)]
+>>> from quasifloors.stretches import is_unit, least_power, lies_within, stretched, taken, undone
+>>> shear = (((3, 2), (1, 0)), ((0, 0), (1, 0)))
+>>> [taken(2, shear, ((1, 0), (0, 1))), undone(2, shear), is_unit(2, (1, 1)), least_power(big, floor, 3)]
+[((3, 3), (0, 1)), (((3, -2), (-3, 2)), ((0, 0), (1, 0))), False, 1]
+>>> [stretched(floor, (3, 2))[1][2], lies_within(floor, big), lies_within(big, floor)]
+[((3, -2, 1), (3, -2, 1)), True, False]
+>>> from quasifloors.rules import grown, grows, rule
+>>> [len(rule(floor, (3, 2), 0)), len(grown(floor, (3, 2), 0, (here,))), grows(floor, (3, 2), 0)]
+[1, 25, False]
+>>> from quasifloors.rows import fillings, gaps, grown_word, grows_itself, members, next_member, word, words
+>>> row = (5, (0, 0, 1), (1, 0, 1))
+>>> [members(row, (0, 0, 1), (6, 0, 1)), next_member(row, (0, 0)), gaps(row)]
+[[(0, 0), (1, 1), (2, 2)], (1, 1), [((0, 1), (2, -1, 1), ((-1, 1, 1), (1, 0, 1))), ((1, 1), (-1, 1, 1), ((0, 0, 1), (-1, 1, 1)))]]
 """
 
 

@@ -3,7 +3,8 @@
 import unittest
 from time import perf_counter
 
-from quasifloors import alikes, floors, patches, returns
+from quasifloors import alikes, floors, patches, returns, rows, rules, stretches
+from tests import stretching
 from tests.plain import HERE, real
 from tests.reference import KINDS
 from tests.samples import at
@@ -80,6 +81,46 @@ class Speed(unittest.TestCase):
             there = floors.moved_floor((kind, GREAT), FAR)
             self.quick(1, 3, patches.patches, there, 1)
             self.quick(10, 2, floors.nearest, there, HERE)
+
+    def test_stretches(self):
+        for kind in KINDS:
+            told = self.floors(kind)
+            matrix = stretching.matrices(kind)[4]
+            for one, other in zip(told, told[1:]):
+                self.quick(100, 1, stretches.taken_floor, one, matrix)
+                self.quick(100, 1, stretches.stretched, one, stretching.GROWING[kind])
+                self.quick(100, 1, stretches.lies_within, one, other)
+                self.quick(20, 1, stretches.least_power, one, other, 8)
+
+    def test_rules(self):
+        for kind in KINDS:
+            unit = stretching.GROWING[kind]
+            for floor in self.floors(kind)[:-3]:
+                told = self.quick(1, 2, rules.rule, floor, unit, 1)
+                self.quick(1, 2, rules.grows, floor, unit, 1)
+                self.quick(10, 1, rules.grows, floor, unit, 0)
+                self.quick(1, 2, rules.is_rule, floor, unit, 1, told)
+                some = tuple(floors.places(floor, ((-30, 0, 1), (-30, 0, 1), (30, 0, 1), (30, 0, 1)))[:20])
+                self.quick(1, 4, rules.grown, floor, unit, 1, some)
+
+    def test_rows(self):
+        far = ((-999, 0, 1), (999, 0, 1))
+        for kind in KINDS:
+            unit = stretching.GROWING[kind]
+            for row in [(kind, (0, 0, 1), (1, 0, 1)), (kind, (-4, 0, 1), (2, 0, 1)), (kind, (-1, 0, 8), (1, 0, 8)),
+                        (kind, (-2, 1, 11), (0, 2, 5))]:
+                member = self.quick(1, 2, rows.members, row, *far)[0]
+                self.quick(100, 1, rows.gaps, row)
+                self.quick(100, 1, rows.next_member, row, member)
+                self.quick(100, 1, rows.last_member, row, member)
+                self.quick(100, 1, rows.word, row, member, 20)
+                word = self.quick(10, 1, rows.word, row, member, 200)
+                self.quick(10, 1, rows.word_part, row, word)
+                self.quick(10, 1, rows.found_word, row, word)
+                self.quick(10, 1, rows.words, row, 20)
+                self.quick(100, 1, rows.grows_itself, row, unit)
+                if rows.grows_itself(row, unit):
+                    self.quick(10, 1, rows.grown_word, row, unit, word)
 
 
 if __name__ == "__main__":

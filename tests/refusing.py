@@ -22,7 +22,7 @@ POLYGONS_WRONG = [(), SQUARE[:2], SQUARE[::-1], SQUARE[1:] + SQUARE[:1], SQUARE 
 class Refusing(unittest.TestCase):
     """What all tests of errors do: call a function by position and by name, and look at what it raises."""
 
-    def refused(self, name, value, function, *told, **named):
+    def refused(self, name, value, function, /, *told, **named):
         before = copy.deepcopy((told, named))
         with self.assertRaises(errors.FloorError) as seen:
             function(*told, **named)

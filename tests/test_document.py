@@ -5,7 +5,8 @@ import inspect
 import unittest
 from pathlib import Path
 
-from quasifloors import alikes, errors, fields, floors, patches, polygons, returns, rows, rules, stretches
+from quasifloors import alikes, consoles, errors, fields, floors, patches, pictures, polygons, readers, returns, rows, rules
+from quasifloors import stretches, texts
 
 TOP = Path(__file__).resolve().parent.parent
 
@@ -32,8 +33,17 @@ ROWS = {"is_row": "told", "is_member": "row member", "members": "row left right"
         "last_member": "row member", "gaps": "row", "word": "row member n", "word_part": "row word", "words": "row n",
         "found_word": "row word", "stretched_row": "row unit", "fillings": "row unit", "grows_itself": "row unit",
         "grown_word": "row unit word"}
+PICTURES = {"drawn": "floor left low wide high size", "drawn_row": "row left wide size",
+            "drawn_window": "floor size wide high"}
+TEXTS = {"show_number": "p", "show_whole": "pair", "show_point": "point", "show_place": "place", "show_places": "places",
+         "show_floor": "floor", "show_row": "row", "show_word": "word"}
+READERS = {"read_number": "text", "read_point": "text", "read_place": "text", "read_places": "text", "read_floor": "text",
+           "read_row": "text", "read_word": "text"}
+CONSOLE = {"keep_floor": "name floor", "keep_row": "name row", "drop": "name", "undo": "", "floor": "name", "row": "name",
+           "names": "", "order": "text"}
 INTERFACE = [(fields, FIELDS), (polygons, POLYGONS), (floors, FLOORS), (patches, PATCHES), (returns, RETURNS),
-             (alikes, ALIKES), (stretches, STRETCHES), (rules, RULES), (rows, ROWS)]
+             (alikes, ALIKES), (stretches, STRETCHES), (rules, RULES), (rows, ROWS), (pictures, PICTURES), (texts, TEXTS),
+             (readers, READERS)]
 
 EXAMPLES = """
 >>> from quasifloors.fields import about, by, compared, floor_of, mate, norm, number, sign, stretch_unit, times, unit
@@ -83,6 +93,9 @@ EXAMPLES = """
 >>> row = (5, (0, 0, 1), (1, 0, 1))
 >>> [members(row, (0, 0, 1), (6, 0, 1)), next_member(row, (0, 0)), gaps(row)]
 [[(0, 0), (1, 1), (2, 2)], (1, 1), [((0, 1), (2, -1, 1), ((-1, 1, 1), (1, 0, 1))), ((1, 1), (-1, 1, 1), ((0, 0, 1), (-1, 1, 1)))]]
+>>> from quasifloors.texts import show_number, show_places, show_row
+>>> [show_number((1, -2, 3)), show_number((0, 1, 1)), show_number((-1, 0, 2)), show_row(row), show_places(patch)]
+['(1-2w)/3', '0+1w', '-1/2', 'row 5 0 1', '0 1, 1 0, 1 1']
 """
 
 
@@ -99,17 +112,27 @@ class Document(unittest.TestCase):
     def test_readme(self):
         self.run_examples((TOP / "README.md").read_text(encoding="utf-8"), "README.md")
 
+    def check_function(self, function, names):
+        self.assertTrue(inspect.isfunction(function))
+        parameters = inspect.signature(function).parameters.values()
+        self.assertEqual([parameter.name for parameter in parameters], names)
+        for parameter in parameters:
+            self.assertEqual(parameter.kind, parameter.POSITIONAL_OR_KEYWORD)
+            self.assertIs(parameter.default, parameter.empty)
+
     def test_interface(self):
         for module, listed in INTERFACE:
             for name, names in listed.items():
                 function = getattr(module, name)
-                self.assertTrue(inspect.isfunction(function))
                 self.assertEqual(function.__module__, module.__name__)
-                parameters = inspect.signature(function).parameters.values()
-                self.assertEqual([parameter.name for parameter in parameters], names.split())
-                for parameter in parameters:
-                    self.assertEqual(parameter.kind, parameter.POSITIONAL_OR_KEYWORD)
-                    self.assertIs(parameter.default, parameter.empty)
+                self.check_function(function, names.split())
+
+    def test_console(self):
+        self.assertTrue(inspect.isclass(consoles.Console))
+        self.assertEqual(consoles.Console.__module__, "quasifloors.consoles")
+        self.assertEqual(list(inspect.signature(consoles.Console).parameters), [])
+        for name, names in CONSOLE.items():
+            self.check_function(vars(consoles.Console)[name], ["self"] + names.split())
 
     def test_errors_take_a_value(self):
         listed = [told for told in vars(errors).values() if inspect.isclass(told)]

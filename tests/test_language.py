@@ -14,7 +14,7 @@ repr any all divmod Exception ValueError TypeError KeyError IndexError LookupErr
 METHODS = """append clear copy count endswith extend find get index insert isalnum isalpha isdigit islower isspace
 isupper items join keys ljust lower lstrip partition pop remove replace reverse rfind rjust rpartition rsplit rstrip
 setdefault split splitlines startswith strip update upper values zfill bit_length""".split()
-BANNED = (ast.Div, ast.Global, ast.AsyncFunctionDef, ast.Await, ast.Import, ast.JoinedStr, ast.Set, ast.SetComp,
+BANNED = (ast.Div, ast.Global, ast.AsyncFunctionDef, ast.Await, ast.Import, ast.Set, ast.SetComp,
           ast.GeneratorExp, ast.Yield, ast.YieldFrom, ast.Try, ast.With, ast.Starred, ast.Pow,
           ast.AnnAssign, ast.NamedExpr)
 
@@ -102,13 +102,45 @@ class Language(unittest.TestCase):
                 if isinstance(node, ast.Expr):
                     self.assertIsInstance(node.value, ast.Constant)
                 if isinstance(node, ast.Assign):
-                    ast.literal_eval(node.value)
+                    self.check_plain(node.value, names)
                     names += [target.id for target in node.targets]
                 if isinstance(node, (ast.FunctionDef, ast.ClassDef)):
                     names.append(node.name)
                 if isinstance(node, ast.ImportFrom):
                     names += [alias.name for alias in node.names]
             self.assertEqual(len(names), len(set(names)), path)
+
+    def check_plain(self, value, names):
+        """A plain value, or a dict of functions that are defined above in the file."""
+        if isinstance(value, ast.Dict) and all([isinstance(told, ast.Name) for told in value.values]):
+            self.assertLessEqual({told.id for told in value.values}, set(names))
+        else:
+            ast.literal_eval(value)
+
+    def test_texts_with_braces(self):
+        # In braces stand only names and calls of functions with names, without formats.
+        for path in FILES:
+            for node in ast.walk(tree(path)):
+                if isinstance(node, ast.FormattedValue):
+                    self.assertEqual((node.conversion, node.format_spec), (-1, None))
+                    told = {type(part) for part in ast.walk(node.value)}
+                    self.assertLessEqual(told, {ast.Name, ast.Call, ast.Load}, ast.unparse(node))
+                if isinstance(node, ast.Constant) and isinstance(node.value, str):
+                    self.assertNotIn("%", node.value)
+
+    def test_classes(self):
+        for path in FILES:
+            for node in tree(path).body:
+                if isinstance(node, ast.ClassDef):
+                    inner = node.body[1:] if ast.get_docstring(node) else node.body
+                    self.assertEqual((node.decorator_list, node.keywords), ([], []))
+                    for told in inner:
+                        self.assertIsInstance(told, (ast.FunctionDef, ast.Pass))
+                    methods = {told.name for told in inner if isinstance(told, ast.FunctionDef)}
+                    stored = {told.attr for told in ast.walk(node) if isinstance(told, ast.Attribute)
+                              and isinstance(told.ctx, ast.Store)}
+                    self.assertEqual(methods & stored, set())
+                    self.assertEqual((methods | stored) & (set(METHODS) | set(dir(builtins))), set())
 
     def test_nothing_that_is_not_used(self):
         for path in FILES:
@@ -121,7 +153,8 @@ class Language(unittest.TestCase):
                         if isinstance(operator, (ast.Is, ast.IsNot)):
                             self.assertIsInstance(other, ast.Constant)
                 if isinstance(node, ast.Call) and isinstance(node.func, ast.Attribute):
-                    self.assertIn(node.func.attr, METHODS)
+                    if not (isinstance(node.func.value, ast.Name) and node.func.value.id == "self"):
+                        self.assertTrue(node.func.attr in METHODS or node.func.attr == "__init__", node.func.attr)
 
     def test_functions_within_functions(self):
         # Only sorted has a key, and that is an item of its one parameter.
@@ -146,7 +179,8 @@ class Language(unittest.TestCase):
             here = set(bound_names(told))
             self.assertEqual(here & known, set(), path)
             for name in here - {"__init__", "_"}:
-                self.assertTrue(name.isascii() and not name.startswith("_"), (path, name))
+                # One underscore and then a letter, for methods that only their own class calls.
+                self.assertRegex(name, "^_?[A-Za-z][A-Za-z0-9_]*$", path)
             for node in ast.walk(told):
                 if isinstance(node, ast.Name) and node.id not in here:
                     self.assertIn(node.id, BUILTINS, (path, node.lineno))
@@ -158,6 +192,9 @@ class Language(unittest.TestCase):
             body = tree(path).body
             imported = {alias.name for node in body if isinstance(node, ast.ImportFrom) for alias in node.names}
             imported |= {node.name for node in body if isinstance(node, ast.ClassDef)}
+            for node in body:
+                if isinstance(node, ast.ClassDef):
+                    body = body + [told for told in node.body if isinstance(told, ast.FunctionDef)]
             for node in body:
                 if isinstance(node, ast.FunctionDef):
                     self.assertEqual(set(bound_names(node)) & imported, set(), (path, node.name))

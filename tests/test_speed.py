@@ -3,7 +3,8 @@
 import unittest
 from time import perf_counter
 
-from quasifloors import alikes, floors, patches, returns, rows, rules, stretches
+from quasifloors import alikes, floors, patches, pictures, readers, returns, rows, rules, stretches, texts
+from quasifloors.consoles import Console
 from tests import stretching
 from tests.plain import HERE, real
 from tests.reference import KINDS
@@ -121,6 +122,37 @@ class Speed(unittest.TestCase):
                 self.quick(100, 1, rows.grows_itself, row, unit)
                 if rows.grows_itself(row, unit):
                     self.quick(10, 1, rows.grown_word, row, unit, word)
+
+    def test_pictures(self):
+        for kind in KINDS:
+            for floor in self.floors(kind):
+                self.quick(4, 1, pictures.drawn, floor, -15, -15, 30, 30, 1)
+                self.quick(10, 1, pictures.drawn, floor, -2, -2, 30, 30, 8)
+                self.quick(10, 1, pictures.drawn_window, floor, 8, 30, 30)
+            self.quick(100, 1, pictures.drawn_row, (kind, (-4, 0, 1), (2, 0, 1)), -15, 30, 1)
+
+    def test_texts(self):
+        places = tuple([((k, -k), (k, 999 - k)) for k in range(200)])
+        text = self.quick(100, 1, texts.show_places, places)
+        self.assertEqual(self.quick(20, 1, readers.read_places, text), places)
+        word = tuple([k % 3 for k in range(300)])
+        self.assertEqual(self.quick(20, 1, readers.read_word, self.quick(100, 1, texts.show_word, word)), word)
+        for kind in KINDS:
+            for floor in self.floors(kind):
+                self.assertEqual(self.quick(100, 1, readers.read_floor, texts.show_floor(floor)), floor)
+
+    def test_consoles(self):
+        for kind in KINDS:
+            told = Console()
+            told.keep_floor("a", (kind, GREAT))
+            told.keep_row("b", (kind, (-4, 0, 1), (2, 0, 1)))
+            for k in range(60):
+                self.quick(1, 1, told.order, "moved c a %d 1-1w" % k)
+            for text in ("show a", "names", "has a 999-999w 5", "density c", "alike a c", "gaps b", "words b 5"):
+                self.quick(100, 1, told.order, text)
+            self.quick(1, 3, told.order, "patches a 1")
+            for _ in range(60):
+                self.quick(1, 1, told.undo)
 
 
 if __name__ == "__main__":

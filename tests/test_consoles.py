@@ -1,6 +1,7 @@
 """consoles.py: what is kept, what is taken back, every order with every answer, and the errors."""
 
 import copy
+import re
 import unittest
 
 from quasifloors import alikes, errors, floors, patches, pictures, returns, rows, rules, stretches
@@ -279,6 +280,11 @@ class Orders(Refusing):
         self.refused("UnknownName", "drop", told.order, "show drop")
 
 
+# Behind the word of an order: a name, an integer, a whole number, a number, places.
+SORTS = {"row": "NIPP", "moved": "NNXX", "stretched": "NNX", "long": "NNX", "drop": "N", "undo": "", "show": "N", "has": "NXX",
+         "density": "N", "patches": "NI", "again": "NIL", "alike": "NN", "grows": "NXI", "gaps": "N", "words": "NI",
+         "drawn": "NIIIII", "names": ""}
+PARTS = {"N": "([a-z]{1,8})", "I": "(%s)" % texts.INTEGER, "X": "([^ ]*)", "P": "([^ ]*)", "L": "(.*)"}
 RIGHT = ["row a 5 0 1", "moved a one 1+1w 0", "stretched a one 3+2w", "long a row 3+2w", "drop one", "undo", "show one",
          "has one 0 1", "density one", "patches one 1", "again one 0 -", "alike one two", "grows one 3+2w 0", "gaps row",
          "words row 2", "drawn one 0 0 2 2 1", "names"]
@@ -310,13 +316,28 @@ class OrderRefusals(Refusing):
             before = told.names()
             self.both_ways("Unorderly", text, told.order, ("text",), (text,))
             self.assertEqual(told.names(), before)
+            self.assertFalse(self.is_orderly(text))
+        for wrong in (None, 0, True, ("names",), b"names", ["names"]):
+            self.both_ways("Unorderly", wrong, console(2).order, ("text",), (wrong,))
         told = console(2)
         for text in RIGHT:
             for wrong in (text + "\n", text + "\n\n", "\n" + text, text + "\n" + text, text + " ", " " + text,
                           text.replace(" ", "  ", 1) + " ", text.upper(), text[1:]):
                 self.both_ways("Unorderly", wrong, told.order, ("text",), (wrong,))
         for text in RIGHT:
+            self.assertTrue(self.is_orderly(text))
             console(2).order(text)
+
+    def is_orderly(self, text):
+        """Whether a text is one of the orders of one line, told by patterns."""
+        word = text.partition(" ")[0]
+        if word not in SORTS or "\n" in text:
+            return False
+        found = re.fullmatch(" ".join([word] + [PARTS[sort] for sort in SORTS[word]]), text)
+        if found is None:
+            return False
+        readings = {"X": texts.whole_of, "P": texts.number_of, "L": texts.places_of}
+        return all([sort in "NI" or readings[sort](part) is not None for sort, part in zip(SORTS[word], found.groups())])
 
     def test_nearly_right(self):
         # Whatever is done to an order: either it is one of the words, or it is unorderly as a whole.
@@ -326,11 +347,15 @@ class OrderRefusals(Refusing):
                     # Too great for the radius of a patch or the like.
                     continue
                 told = console(2)
+                orderly = self.is_orderly(wrong)
                 try:
                     self.assertIs(type(told.order(wrong)), str)
+                    self.assertTrue(orderly, wrong)
                 except errors.Unorderly as error:
                     self.assertEqual(error.value, wrong)
+                    self.assertFalse(orderly, wrong)
                 except errors.FloorError as error:
+                    self.assertTrue(orderly, wrong)
                     self.assertIn(type(error).__name__, ("UnknownName", "WrongKind", "InvalidRow", "InvalidUnit", "InvalidPatch",
                                                          "InvalidRadius", "InvalidNumber", "NoPatch"), wrong)
                     self.assertNotIn("\n", wrong)
